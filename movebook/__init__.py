@@ -1,0 +1,1 @@
+"""Movebook: a drawing that is kept, moved and asked, with exact fractions."""

@@ -1,0 +1,147 @@
+"""The rules of ../shared/LANGUAGE.md that can be read off the code, and the interface's files."""
+
+import ast
+import builtins
+import re
+import unittest
+from pathlib import Path
+
+PACKAGE = Path(__file__).resolve().parent.parent / "movebook"
+FILES = sorted(path for path in PACKAGE.rglob("*") if path.is_file() and "__pycache__" not in path.parts)
+
+BUILTINS = set("""len range enumerate zip min max sum abs sorted reversed int str bool bytes list tuple dict set
+    frozenset isinstance ord repr any all divmod iter next super property staticmethod classmethod Exception
+    ValueError TypeError KeyError IndexError LookupError ZeroDivisionError ArithmeticError OverflowError
+    RuntimeError NotImplementedError AttributeError StopIteration NotImplemented object float""".split())
+BARRED_WORDS = """type typing typing_extensions enum Enum IntEnum StrEnum Flag IntFlag Generic Protocol ABC ABCMeta
+    namedtuple NamedTuple TypedDict TYPE_CHECKING abstractmethod""".split()
+BARRED_PARTS = ["dataclass", "overload", "contextmanager"]
+BARRED_NAMES = ["register", "mro", "elements", "open", "input", "law", "version_info", "with_traceback", "add_note"]
+
+INTERFACE = {
+    "errors": {},
+    "fracs": {"fraction": ["top", "bottom"], "plus": ["one", "other"], "minus": ["one", "other"],
+              "times": ["one", "other"], "over": ["one", "other"], "less": ["one", "other"], "root": ["one"]},
+    "names": {"good": ["name"]},
+}
+
+
+def parsed(path):
+    return ast.parse(path.read_text())
+
+
+def nodes(*kinds):
+    """Each node of these kinds in the package, with a text that tells where it stands."""
+    for path in FILES:
+        for node in ast.walk(parsed(path)):
+            if isinstance(node, kinds):
+                yield f"{path.name}:{getattr(node, 'lineno', 0)}", node
+
+
+def names_of(node):
+    """The names that a node binds, reads or asks for."""
+    if isinstance(node, ast.Name):
+        return [node.id]
+    if isinstance(node, ast.Attribute):
+        return [node.attr]
+    if isinstance(node, ast.arg):
+        return [node.arg]
+    return [node.name]
+
+
+class Files(unittest.TestCase):
+    def test_l1_l14_plain_files(self):
+        self.assertIn("__init__.py", [path.name for path in FILES])
+        for path in FILES:
+            self.assertRegex(path.name, r"\A(__init__|__main__|[a-z][a-z0-9_]*)\.py\Z")
+            self.assertNotRegex(path.name, r"\A(law_|test|site|conftest)")
+
+    def test_l10_l14_sizes_and_signs(self):
+        for path in FILES:
+            text = path.read_bytes().decode("ascii")
+            self.assertRegex(text, r"\A[\n -~]*\Z", path.name)
+            self.assertLessEqual(len(text.split("\n")), 399, path.name)
+            for line in text.split("\n"):
+                self.assertLessEqual(len(line), 120, path.name)
+
+    def test_l10_length_of_functions(self):
+        for place, node in nodes(ast.FunctionDef):
+            self.assertLessEqual(node.end_lineno - node.lineno + 1, 40, place)
+
+    def test_l17_barred_words(self):
+        for path in FILES:
+            words = re.findall(r"[A-Za-z0-9_]+", path.read_text())
+            for barred in BARRED_WORDS:
+                self.assertNotIn(barred, words, path.name)
+            for barred in BARRED_PARTS:
+                self.assertNotIn(barred, path.read_text(), path.name)
+
+
+class Code(unittest.TestCase):
+    def test_l2_l16_imports_name_the_file_that_defines(self):
+        for place, node in nodes(ast.Import, ast.ImportFrom):
+            self.assertIsInstance(node, ast.ImportFrom, place)
+            if node.module != "__future__":
+                self.assertEqual(node.level, 0, place)
+                package, file = node.module.split(".")
+                self.assertEqual(package, "movebook", place)
+                self.assertLessEqual({alias.name for alias in node.names}, bound(PACKAGE / f"{file}.py"), place)
+
+    def test_l3_module_level(self):
+        allowed = (ast.Import, ast.ImportFrom, ast.FunctionDef, ast.ClassDef, ast.Assign, ast.AnnAssign)
+        for path in FILES:
+            for at, node in enumerate(parsed(path).body):
+                docstring = at == 0 and isinstance(node, ast.Expr) and isinstance(node.value, ast.Constant)
+                self.assertTrue(docstring or isinstance(node, allowed), path.name)
+
+    def test_l6_l7_no_barred_statement_or_value(self):
+        barred = (ast.Global, ast.AsyncFunctionDef, ast.Await, ast.Div)
+        for place, node in nodes(*barred):
+            self.fail(f"{place} {node}")
+        for place, node in nodes(ast.Constant):
+            self.assertNotIsInstance(node.value, (float, complex), place)
+            if isinstance(node.value, str):
+                self.assertNotIn("%", node.value, place)
+
+    def test_l8_builtins(self):
+        for place, node in nodes(ast.Name):
+            if hasattr(builtins, node.id):
+                self.assertIn(node.id, BUILTINS, place)
+
+    def test_l12_l17_names(self):
+        for place, node in nodes(ast.Name, ast.Attribute, ast.arg, ast.FunctionDef, ast.ClassDef):
+            for name in names_of(node):
+                self.assertNotIn(name, BARRED_NAMES, place)
+                self.assertRegex(name, r"\A(__[a-z]+__|[A-Za-z][A-Za-z0-9_]*)\Z", place)
+
+    def test_l20_is(self):
+        for place, node in nodes(ast.Compare):
+            for sign, other in zip(node.ops, node.comparators):
+                if isinstance(sign, (ast.Is, ast.IsNot)):
+                    self.assertIsInstance(other, ast.Constant, place)
+                    self.assertIn(other.value, [None, True, False], place)
+
+
+def bound(path):
+    """The names that a file defines itself."""
+    found = set()
+    for node in parsed(path).body:
+        if isinstance(node, (ast.FunctionDef, ast.ClassDef)):
+            found.add(node.name)
+        if isinstance(node, ast.Assign):
+            found.update(target.id for target in node.targets)
+    return found
+
+
+class Interface(unittest.TestCase):
+    def test_functions_stand_in_their_files_with_their_arguments(self):
+        for file, functions in INTERFACE.items():
+            body = parsed(PACKAGE / f"{file}.py").body
+            defined = {node.name: node for node in body if isinstance(node, ast.FunctionDef)}
+            for name, arguments in functions.items():
+                self.assertIn(name, defined)
+                self.assertEqual([one.arg for one in defined[name].args.args], arguments, name)
+
+
+if __name__ == "__main__":
+    unittest.main()
