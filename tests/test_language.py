@@ -17,12 +17,22 @@ BARRED_WORDS = """type typing typing_extensions enum Enum IntEnum StrEnum Flag I
     namedtuple NamedTuple TypedDict TYPE_CHECKING abstractmethod""".split()
 BARRED_PARTS = ["dataclass", "overload", "contextmanager"]
 BARRED_NAMES = ["register", "mro", "elements", "open", "input", "law", "version_info", "with_traceback", "add_note"]
+METHODS = set("""append clear copy count endswith extend find get index insert isalnum isalpha isdigit islower
+    isspace isupper items join keys ljust lower lstrip partition pop remove replace reverse rfind rjust rpartition
+    rsplit rstrip setdefault split splitlines startswith strip update upper values zfill bit_length add
+    discard sort""".split())
 
 INTERFACE = {
     "errors": {},
     "fracs": {"fraction": ["top", "bottom"], "plus": ["one", "other"], "minus": ["one", "other"],
               "times": ["one", "other"], "over": ["one", "other"], "less": ["one", "other"], "root": ["one"]},
     "names": {"good": ["name"]},
+    "places": {"middle": ["p", "q"], "share": ["p", "q", "t"], "beyond": ["p", "q"], "turned": ["p", "q"]},
+    "lines": {"through": ["p", "q"], "along": ["p", "line"], "upright": ["p", "line"], "meet": ["line", "other"],
+              "foot": ["p", "line"], "mirror": ["p", "line"]},
+    "circles": {"about": ["p", "q"], "line_cuts": ["line", "ring"], "ring_cuts": ["ring", "other"]},
+    "judging": {"in_line": ["p", "q", "r"], "side_by_side": ["line", "other"], "square_on": ["line", "other"],
+                "all_round": ["p", "q", "r", "s"], "as_far": ["p", "q", "r", "s"]},
 }
 
 
@@ -47,6 +57,10 @@ def names_of(node):
     if isinstance(node, ast.arg):
         return [node.arg]
     return [node.name]
+
+
+def methods(tree):
+    return [part for node in ast.walk(tree) if isinstance(node, ast.ClassDef) for part in node.body]
 
 
 class Files(unittest.TestCase):
@@ -120,6 +134,57 @@ class Code(unittest.TestCase):
                 if isinstance(sign, (ast.Is, ast.IsNot)):
                     self.assertIsInstance(other, ast.Constant, place)
                     self.assertIn(other.value, [None, True, False], place)
+
+
+    def test_l15_no_name_of_a_builtin_a_class_or_an_import_is_bound_again(self):
+        for path in FILES:
+            tree = parsed(path)
+            barred = {name for name in dir(builtins) if not name.startswith("_")}
+            for node in ast.walk(tree):
+                if isinstance(node, ast.ImportFrom):
+                    barred.update(alias.asname or alias.name for alias in node.names)
+                if isinstance(node, ast.ClassDef):
+                    barred.add(node.name)
+            for node in ast.walk(tree):
+                if isinstance(node, ast.arg):
+                    self.assertNotIn(node.arg, barred, f"{path.name}:{node.lineno}")
+                if isinstance(node, ast.Name) and isinstance(node.ctx, ast.Store):
+                    self.assertNotIn(node.id, barred, f"{path.name}:{node.lineno}")
+                if isinstance(node, ast.FunctionDef) and node not in methods(tree):
+                    self.assertNotIn(node.name, barred, f"{path.name}:{node.lineno}")
+
+    def test_l3_l15_tables_hold_no_list_and_no_dict(self):
+        for path in FILES:
+            for node in parsed(path).body:
+                if isinstance(node, ast.Assign):
+                    self.assertEqual(len(node.targets), 1, path.name)
+                    self.assertIsInstance(node.targets[0], ast.Name, path.name)
+                    inner = [one for one in ast.walk(node.value) if one is not node.value]
+                    for one in inner:
+                        self.assertNotIsInstance(one, (ast.List, ast.Dict, ast.Set, ast.Call), path.name)
+
+    def test_l16_no_ring_of_imports(self):
+        above = {}
+        for path in FILES:
+            above[path.stem] = {node.module.split(".")[1] for node in ast.walk(parsed(path))
+                                if isinstance(node, ast.ImportFrom) and node.module != "__future__"}
+        while above:
+            free = [name for name in above if not above[name] & set(above)]
+            self.assertTrue(free, sorted(above))
+            for name in free:
+                del above[name]
+
+    def test_l25_methods(self):
+        own = {node.name for place, node in nodes(ast.FunctionDef)}
+        for place, node in nodes(ast.Call):
+            if isinstance(node.func, ast.Attribute):
+                self.assertIn(node.func.attr, METHODS | own, place)
+
+    def test_l27_powers(self):
+        for place, node in nodes(ast.BinOp):
+            if isinstance(node.op, ast.Pow):
+                self.assertIsInstance(node.right, ast.Constant, place)
+                self.assertIn(node.right.value, range(65), place)
 
 
 def bound(path):
