@@ -1,6 +1,6 @@
 """Circles: tuples (x, y, s) of fractions, the centre (x, y) and the square s of the radius."""
 
-from movebook.fracs import fraction, less, root
+from movebook.fracs import fraction, root
 from movebook.lines import one_form
 from movebook.places import cleared, way
 
@@ -26,9 +26,10 @@ def line_cuts(line, ring):
     reach = root(spare)
     if reach is None:
         return ("root", [])
-    one = reached(line, (x, y, w), short, reach)
-    other = reached(line, (x, y, w), short, (-reach[0], reach[1]))
-    return ("at", in_order(one, other))
+    onward = reached(line, (x, y, w), short, reach)
+    backward = reached(line, (x, y, w), short, (-reach[0], reach[1]))
+    # Onward along (b, -a) x rises where b is above 0; else x falls or, where b is 0, y does, a being above 0.
+    return ("at", [backward, onward] if b > 0 else [onward, backward])
 
 
 def ring_cuts(ring, other):
@@ -51,13 +52,6 @@ def reached(line, centre, short, reach):
     right = (n * x + a * short) * bottom + b * top
     up = (n * y + b * short) * bottom - a * top
     return (fraction(right, w * n * bottom), fraction(up, w * n * bottom))
-
-
-def in_order(one, other):
-    """A list of both places, the one with the lesser x first, then the one with the lesser y."""
-    if less(other[0], one[0]) or (other[0] == one[0] and less(other[1], one[1])):
-        return [other, one]
-    return [one, other]
 
 
 def common_line(ring, other):

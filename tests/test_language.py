@@ -33,6 +33,9 @@ INTERFACE = {
     "circles": {"about": ["p", "q"], "line_cuts": ["line", "ring"], "ring_cuts": ["ring", "other"]},
     "judging": {"in_line": ["p", "q", "r"], "side_by_side": ["line", "other"], "square_on": ["line", "other"],
                 "all_round": ["p", "q", "r", "s"], "as_far": ["p", "q", "r", "s"]},
+    "makings": {"sort_of": ["making"], "grounds": ["making"]},
+    "rows": {"weights": ["row"], "beneath": ["row", "name"], "above": ["row", "name"]},
+    "tellings": {"anew": ["row"]},
 }
 
 
