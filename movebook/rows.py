@@ -31,11 +31,21 @@ def beneath(row, name):
 def above(row, name):
     """The names of all that hangs on the thing, in the row's order."""
     refuse_missing(row, name)
-    found = {name: True}
+    return [other for other in with_above(row, [name]) if other != name]
+
+
+def with_above(row, names):
+    """The things of these names and all that hangs on them, in the row's order."""
+    found = {}
     for other, making in row:
-        if any([ground in found for ground in grounds(making)]):
+        if other in names or any([ground in found for ground in grounds(making)]):
             found[other] = True
-    return [other for other, making in row if other in found and other != name]
+    return list(found)
+
+
+def sorts_of(row):
+    """The sort of each thing of the row, by its name."""
+    return {name: sort_of(making) for name, making in row}
 
 
 def refuse_missing(row, name):

@@ -36,6 +36,22 @@ INTERFACE = {
     "makings": {"sort_of": ["making"], "grounds": ["making"]},
     "rows": {"weights": ["row"], "beneath": ["row", "name"], "above": ["row", "name"]},
     "tellings": {"anew": ["row"]},
+    "books": {"begun": ["book"]},
+    "forms": {"gathered": ["many", "terms"], "added": ["form", "other"], "taken": ["form", "other"],
+              "multiplied": ["form", "other"], "put_in": ["form", "at", "number"], "worth": ["form", "numbers"],
+              "off_nought": ["many", "forms"]},
+    "worked": {"free_points": ["row", "name"], "worked": ["row", "name"], "hinges": ["row", "name"],
+               "claimed": ["row", "name"]},
+    "ever": {"ever": ["row", "name"]},
+}
+CLASSES = {
+    ("books", "Book"): {
+        "__init__": [], "put": ["name", "making"], "rename": ["name", "other"], "lock": ["name"], "unlock": ["name"],
+        "move": ["name", "place"], "shift": ["group", "by"], "rehang": ["name", "making"], "take": ["name", "whole"],
+        "group": ["name", "names"], "ungroup": ["name"], "watch": ["name", "names"], "unwatch": ["name"], "hush": ["name"],
+        "undo": [], "again": [], "mark": ["name"], "back": ["name"], "steps": [], "marks": [], "twin": [], "row": [],
+        "making": ["name"], "telling": ["name"], "sheet": [], "weight": ["name"], "beneath": ["name"], "above": ["name"],
+        "ever": ["name"], "locked": [], "groups": [], "watchers": [], "heard": ["name"]},
 }
 
 
@@ -177,6 +193,32 @@ class Code(unittest.TestCase):
             for name in free:
                 del above[name]
 
+    def test_l18_no_name_is_a_method_and_an_attribute(self):
+        own = {part.name for path in FILES for part in methods(parsed(path)) if isinstance(part, ast.FunctionDef)}
+        assigned = {node.attr for place, node in nodes(ast.Attribute) if isinstance(node.ctx, ast.Store)}
+        self.assertEqual(own & assigned, set())
+        in_classes = {node.attr for path in FILES for part in methods(parsed(path)) for node in ast.walk(part)
+                      if isinstance(node, ast.Attribute) and isinstance(node.ctx, ast.Store)}
+        for place, node in nodes(ast.Attribute):
+            if node.attr not in METHODS | own:
+                self.assertIn(node.attr, in_classes, place)
+
+    def test_l26_names_of_methods_and_attributes(self):
+        builtin = {name for kind in (str, int, list, dict, set, bytes, tuple) for name in dir(kind)}
+        own = {part.name for path in FILES for part in methods(parsed(path)) if isinstance(part, ast.FunctionDef)}
+        assigned = {node.attr for place, node in nodes(ast.Attribute) if isinstance(node.ctx, ast.Store)}
+        self.assertEqual({name for name in own | assigned if not name.startswith("__")} & builtin, set())
+
+    def test_l4_no_decorators_and_plain_parameters(self):
+        for place, node in nodes(ast.FunctionDef):
+            self.assertEqual((node.decorator_list, node.args.posonlyargs), ([], []), place)
+
+    def test_l24_sets_are_not_kept(self):
+        for place, node in nodes(ast.Set, ast.SetComp):
+            self.fail(place)
+        for place, node in nodes(ast.Name):
+            self.assertNotIn(node.id, ("set", "frozenset"), place)
+
     def test_l25_methods(self):
         own = {node.name for place, node in nodes(ast.FunctionDef)}
         for place, node in nodes(ast.Call):
@@ -209,6 +251,15 @@ class Interface(unittest.TestCase):
             for name, arguments in functions.items():
                 self.assertIn(name, defined)
                 self.assertEqual([one.arg for one in defined[name].args.args], arguments, name)
+
+    def test_methods_stand_in_their_classes_with_their_arguments(self):
+        for (file, name), listed in CLASSES.items():
+            [found] = [node for node in parsed(PACKAGE / f"{file}.py").body
+                       if isinstance(node, ast.ClassDef) and node.name == name]
+            defined = {node.name: node for node in found.body if isinstance(node, ast.FunctionDef)}
+            for method, arguments in listed.items():
+                self.assertIn(method, defined)
+                self.assertEqual([one.arg for one in defined[method].args.args], ["self", *arguments], method)
 
 
 if __name__ == "__main__":
