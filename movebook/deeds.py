@@ -26,11 +26,11 @@ def taking(state, name, whole):
         raise Hung(hanging)
     # What hangs on a thing stands behind it in the row.
     going = [name, *hanging]
+    # So nothing locked goes, and the locks stay as they are.
     refuse_locked(state, going)
     new = next_state(state)
     new.things = [(other, making) for other, making in state.things if other not in going]
     new.tellings = without(state.tellings, going)
-    new.locks = without(state.locks, going)
     new.bands = {band: left_of(state.bands[band], going) for band in state.bands}
     new.eyes = {eye: left_of(state.eyes[eye], going) for eye in state.eyes}
     return (new, going)

@@ -6,14 +6,18 @@ made here, so that no list of the caller's stays within the refusal.
 
 
 class BookError(ValueError):
-    """Any refusal."""
+    """Any refusal; its words are its class and the names that it tells, as a desk answers them."""
+
+    def __init__(self, message="", words=()):
+        ValueError.__init__(self, message)
+        self.words = words
 
 
 class BadName(BookError):
     """What was handed in as a name is no good name."""
 
     def __init__(self, name):
-        BookError.__init__(self, f"no good name: {name}")
+        BookError.__init__(self, f"no good name: {name}", ("BadName", name))
         self.name = name
 
 
@@ -21,7 +25,7 @@ class Taken(BookError):
     """The name is one that a thing already has."""
 
     def __init__(self, name):
-        BookError.__init__(self, f"a thing has this name already: {name}")
+        BookError.__init__(self, f"a thing has this name already: {name}", ("Taken", name))
         self.name = name
 
 
@@ -29,7 +33,7 @@ class NoThing(BookError):
     """No thing has this name."""
 
     def __init__(self, name):
-        BookError.__init__(self, f"no thing has this name: {name}")
+        BookError.__init__(self, f"no thing has this name: {name}", ("NoThing", name))
         self.name = name
 
 
@@ -37,7 +41,7 @@ class WrongSort(BookError):
     """The thing is of another sort than is due there."""
 
     def __init__(self, name):
-        BookError.__init__(self, f"a thing of another sort: {name}")
+        BookError.__init__(self, f"a thing of another sort: {name}", ("WrongSort", name))
         self.name = name
 
 
@@ -45,7 +49,7 @@ class NotFree(BookError):
     """The thing is not made by "free"."""
 
     def __init__(self, name):
-        BookError.__init__(self, f"not a free point: {name}")
+        BookError.__init__(self, f"not a free point: {name}", ("NotFree", name))
         self.name = name
 
 
@@ -53,7 +57,7 @@ class Far(BookError):
     """The making breaks the bounds of free points and shares."""
 
     def __init__(self, name):
-        BookError.__init__(self, f"beyond the bounds: {name}")
+        BookError.__init__(self, f"beyond the bounds: {name}", ("Far", name))
         self.name = name
 
 
@@ -61,7 +65,7 @@ class TooHeavy(BookError):
     """The thing would weigh more than it may."""
 
     def __init__(self, name):
-        BookError.__init__(self, f"too heavy: {name}")
+        BookError.__init__(self, f"too heavy: {name}", ("TooHeavy", name))
         self.name = name
 
 
@@ -69,7 +73,7 @@ class Ring(BookError):
     """The thing would hang on itself."""
 
     def __init__(self, name):
-        BookError.__init__(self, f"hangs on what would hang on it: {name}")
+        BookError.__init__(self, f"hangs on what would hang on it: {name}", ("Ring", name))
         self.name = name
 
 
@@ -77,7 +81,7 @@ class Locked(BookError):
     """A locked thing would tell otherwise, or go."""
 
     def __init__(self, name):
-        BookError.__init__(self, f"a locked thing: {name}")
+        BookError.__init__(self, f"a locked thing: {name}", ("Locked", name))
         self.name = name
 
 
@@ -85,7 +89,7 @@ class NoGroup(BookError):
     """No group has this name."""
 
     def __init__(self, name):
-        BookError.__init__(self, f"no group has this name: {name}")
+        BookError.__init__(self, f"no group has this name: {name}", ("NoGroup", name))
         self.name = name
 
 
@@ -93,7 +97,7 @@ class NoWatcher(BookError):
     """No watcher has this name."""
 
     def __init__(self, name):
-        BookError.__init__(self, f"no watcher has this name: {name}")
+        BookError.__init__(self, f"no watcher has this name: {name}", ("NoWatcher", name))
         self.name = name
 
 
@@ -101,7 +105,7 @@ class NoMark(BookError):
     """No mark has this name."""
 
     def __init__(self, name):
-        BookError.__init__(self, f"no mark has this name: {name}")
+        BookError.__init__(self, f"no mark has this name: {name}", ("NoMark", name))
         self.name = name
 
 
@@ -109,7 +113,7 @@ class Rooted(BookError):
     """A thing made by "cut" stands where none may."""
 
     def __init__(self, name):
-        BookError.__init__(self, f"made by cut: {name}")
+        BookError.__init__(self, f"made by cut: {name}", ("Rooted", name))
         self.name = name
 
 
@@ -117,7 +121,7 @@ class TooWide(BookError):
     """The thing has too many free points for its weight."""
 
     def __init__(self, name):
-        BookError.__init__(self, f"too wide to be asked: {name}")
+        BookError.__init__(self, f"too wide to be asked: {name}", ("TooWide", name))
         self.name = name
 
 
@@ -125,7 +129,7 @@ class Hung(BookError):
     """Other things hang on the one that is to go."""
 
     def __init__(self, names):
-        BookError.__init__(self, "other things hang on it")
+        BookError.__init__(self, "other things hang on it", ("Hung", *names))
         # A copy: the caller may go on changing the list that was handed in.
         self.names = list(names)
 
@@ -135,7 +139,7 @@ class BadText(BookError):
 
     def __init__(self, number):
         # Python does not write out numbers of many thousand figures, so the message leaves it out.
-        BookError.__init__(self, "a bad row in the text")
+        BookError.__init__(self, "a bad row in the text", ("BadText",))
         self.number = number
 
 
@@ -143,13 +147,19 @@ class Nought(BookError):
     """A form of the list, counted from 0, is nought."""
 
     def __init__(self, number):
-        BookError.__init__(self, "a form that is nought")
+        BookError.__init__(self, "a form that is nought", ("Nought",))
         self.number = number
 
 
 class NoNumber(BookError):
     """A number would be divided by nought."""
 
+    def __init__(self):
+        BookError.__init__(self, "nothing is divided by nought", ("NoNumber",))
+
 
 class NoStep(BookError):
     """There is no state to go to."""
+
+    def __init__(self):
+        BookError.__init__(self, "there is no state to go to", ("NoStep",))

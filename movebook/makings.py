@@ -23,6 +23,9 @@ WORDS = {
     "square": ("claim", ("line", "line")),
 }
 
+# What stands behind the grounds, where anything does.
+MORE = {"free": ("fraction", "fraction"), "share": ("fraction",), "cut": ("choice",)}
+
 # Tops and bottoms stay below these.
 FREE_BOUND = 10 ** 9
 SHARE_BOUND = 1000

@@ -271,7 +271,8 @@ class ModelBook:
         return self.now.names()
 
     def sheet(self):
-        return [(name, making, self.now.tellings()[name]) for name, making in self.now.row]
+        told = self.now.tellings()
+        return [(name, making, told[name]) for name, making in self.now.row]
 
     def making(self, name):
         self.now.need(name)

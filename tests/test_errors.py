@@ -107,6 +107,13 @@ class Values(unittest.TestCase):
         first, second = errors.Hung(["a"]), errors.Hung(["b"])
         self.assertEqual((first.names, second.names), (["a"], ["b"]))
 
+    def test_words_are_the_class_and_the_names(self):
+        for word in NAMED:
+            self.assertEqual(made(word).words, (word, "abc"))
+        for word in NUMBERED + BARE:
+            self.assertEqual(made(word).words, (word,))
+        self.assertEqual(errors.Hung(["b", "c"]).words, ("Hung", "b", "c"))
+
     def test_the_value_is_there_behind_the_raising(self):
         with self.assertRaises(ValueError) as caught:
             raise errors.Locked("abc")

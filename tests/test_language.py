@@ -20,7 +20,7 @@ BARRED_NAMES = ["register", "mro", "elements", "open", "input", "law", "version_
 METHODS = set("""append clear copy count endswith extend find get index insert isalnum isalpha isdigit islower
     isspace isupper items join keys ljust lower lstrip partition pop remove replace reverse rfind rjust rpartition
     rsplit rstrip setdefault split splitlines startswith strip update upper values zfill bit_length add
-    discard sort""".split())
+    discard sort removeprefix removesuffix""".split())
 
 INTERFACE = {
     "errors": {},
@@ -43,6 +43,10 @@ INTERFACE = {
     "worked": {"free_points": ["row", "name"], "worked": ["row", "name"], "hinges": ["row", "name"],
                "claimed": ["row", "name"]},
     "ever": {"ever": ["row", "name"]},
+    "sharing": {"shared": ["one", "other"]},
+    "looker": {"looks": ["sheet"]},
+    "texts": {"written": ["book"], "read": ["text"]},
+    "desk": {},
 }
 CLASSES = {
     ("books", "Book"): {
@@ -52,6 +56,7 @@ CLASSES = {
         "undo": [], "again": [], "mark": ["name"], "back": ["name"], "steps": [], "marks": [], "twin": [], "row": [],
         "making": ["name"], "telling": ["name"], "sheet": [], "weight": ["name"], "beneath": ["name"], "above": ["name"],
         "ever": ["name"], "locked": [], "groups": [], "watchers": [], "heard": ["name"]},
+    ("desk", "Desk"): {"__init__": [], "told": ["line"], "book": []},
 }
 
 
@@ -154,6 +159,19 @@ class Code(unittest.TestCase):
                     self.assertIsInstance(other, ast.Constant, place)
                     self.assertIn(other.value, [None, True, False], place)
 
+    def test_l7_stars_in_calls(self):
+        for place, node in nodes(ast.Call):
+            for argument in node.args:
+                if isinstance(argument, ast.Starred):
+                    self.assertIsInstance(argument.value, (ast.Name, ast.Attribute), place)
+
+    def test_l19_what_a_handler_reads_of_its_error(self):
+        for place, node in nodes(ast.ExceptHandler):
+            self.assertIsNotNone(node.type, place)
+            if node.name:
+                read = [one for one in ast.walk(node) if isinstance(one, ast.Name) and one.id == node.name]
+                off = [one.value for one in ast.walk(node) if isinstance(one, ast.Attribute)]
+                self.assertTrue(all(one in off for one in read), place)
 
     def test_l15_no_name_of_a_builtin_a_class_or_an_import_is_bound_again(self):
         for path in FILES:
